@@ -1,0 +1,1 @@
+"""Pinchfold: papers of hidden faces, folded of a strip and pinched open."""
