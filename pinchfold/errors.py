@@ -89,7 +89,6 @@ class OtherRow(PinchError):
     """The plan's row, wanted, is not the one that the strip had."""
 
     def __init__(self, had, wanted):
-        super().__init__(f"the strip's row is {had}, the plan's is {wanted}")
         self.had = had
         self.wanted = wanted
 
@@ -114,5 +113,4 @@ class BadText(PinchError):
     """A text that is not so written, by the number of its first wrong line."""
 
     def __init__(self, at):
-        super().__init__(f"line {at} cannot be read")
         self.at = at
