@@ -6,7 +6,7 @@ the corners between two ends are the numbers between them.
 """
 
 from pinchfold.errors import BadFaces, BadNumber
-from pinchfold.plans import LEAST_FACES, MOST_FACES, lines, turned
+from pinchfold.plans import LEAST_FACES, MOST_FACES, thirds_of, turned
 
 
 def how_many(faces):
@@ -61,28 +61,20 @@ def cuts_inside(ways, first, last, number):
 
 def number_of(plan):
     """Tell the number of a plan."""
-    joined = lines(turned(plan, -1))
+    thirds = thirds_of(turned(plan, -1))
     faces = plan[0]
-    return number_inside(ways_to_cut(faces), joined, 0, faces - 1)
+    return number_inside(ways_to_cut(faces), thirds, 0, faces - 1)
 
 
-def number_inside(ways, joined, first, last):
+def number_inside(ways, thirds, first, last):
     """Tell the number of the way in which the arc from first to last is cut."""
     if last - first < 2:
         return 0
-    chosen = third_corner(joined, first, last)
+    chosen = thirds[(first, last)]
     earlier = sum([ways_beside(ways, first, corner, last) for corner in range(first + 1, chosen)])
-    of_first = number_inside(ways, joined, first, chosen)
-    of_second = number_inside(ways, joined, chosen, last)
+    of_first = number_inside(ways, thirds, first, chosen)
+    of_second = number_inside(ways, thirds, chosen, last)
     return earlier + of_first * ways[last - chosen + 1] + of_second
-
-
-def third_corner(joined, first, last):
-    """Tell the corner between first and last that has a line with both."""
-    chosen = first + 1
-    while (first, chosen) not in joined or (chosen, last) not in joined:
-        chosen += 1
-    return chosen
 
 
 def unlike(faces):

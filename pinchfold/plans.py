@@ -67,6 +67,20 @@ def parts(plan):
     return found
 
 
+def thirds_of(plan):
+    """Tell the third corners of the parts, each by the two ends of a line that it lies between.
+
+    The pair (start, end) has the corner that is met as one goes round from
+    start to end; a pair without corners between, a side, has none.
+    """
+    thirds = {}
+    for low, middle, high in parts(plan):
+        thirds[(low, high)] = middle
+        thirds[(middle, low)] = high
+        thirds[(high, middle)] = low
+    return thirds
+
+
 def fan(plan, face):
     """Tell the faces that have a line with this one, going round from the face that follows it."""
     joined = lines(plan)
