@@ -30,6 +30,11 @@ def check_place(plan, place):
 def check_way(plan, place, way):
     """Refuse what is no plan, then what is no place of it, then what is no way."""
     check_place(plan, place)
+    check_word_of_way(way)
+
+
+def check_word_of_way(way):
+    """Refuse what is no way."""
     if way not in WAYS:
         raise BadWay("a way is even or odd")
 

@@ -154,6 +154,38 @@ def own_row(plan):
     return "".join(letters[leaf] for leaf in own_order(plan))
 
 
+def own_middles(plan, place):
+    """By counting the parts at the corner top, and those of them that lie ahead of the line."""
+    top, under = place
+    faces, joined = plan[0], ring_lines(plan)
+    others = going_round(faces, top, top)
+    at_top = [pair for pair in combinations(others, 2) if all(
+        tuple(sorted(line)) in joined for line in ((top, pair[0]), (top, pair[1]), pair)
+    )]
+    ahead = going_round(faces, top, under) + [under]
+    between = [pair for pair in at_top if pair[0] in ahead and pair[1] in ahead]
+    return (len(between) % 3, (len(between) - len(at_top)) % 3)
+
+
+def own_heaps(plan, lie):
+    """By cutting the ring of all copies into stretches, wherever even leaves and odd ones meet."""
+    top, under, front = lie
+    order, copies = own_order(plan), 3 * plan[0]
+    even, odd = own_stacks(plan, (top, under))
+    is_even = [order[copy % plan[0]] in even for copy in range(copies)]
+    begins = [copy for copy in range(copies) if is_even[copy] != is_even[copy - 1]]
+    stretches = []
+    for at, begin in enumerate(begins):
+        end = begins[(at + 1) % len(begins)]
+        stretches.append([begin] + going_round(copies, begin, end))
+    in_front = front * plan[0] + order.index(top)
+    first = [at for at, stretch in enumerate(stretches) if in_front in stretch][0]
+    turn = 1 if own_upright(plan, (top, under)) else -1
+    slots = [stretches[(first + turn * slot) % len(stretches)] for slot in range(len(stretches))]
+    downwards = even + odd
+    return [sorted(stretch, key=lambda copy: downwards.index(order[copy % plan[0]])) for stretch in slots]
+
+
 def wandering(plan, place, count, seed=7):
     """Steps that can be done one behind the other from a place, pinches, unpinches and turnings over."""
     steps = []

@@ -1,17 +1,16 @@
 """What is seen: copies, slots and corners, [12], [14], [15], [16], and beneath as [20] has it."""
 
 import unittest
-from itertools import combinations
 
 from pinchfold.errors import BadLie, BadPlace, BadPlan
 from pinchfold.places import pinch, unpinch
 from pinchfold.roads import tour
 from pinchfold.sights import beneath, heaps, middles, ring
 from tests.model import (
-    NO_THIRDS, forty_faced_plans, going_round, own_order, own_places, own_stacks, own_step, own_third, own_upright,
-    some_no_places, wandering,
+    NO_THIRDS, forty_faced_plans, own_heaps, own_middles, own_order, own_places, own_stacks, own_step, own_third,
+    own_upright, some_no_places, wandering,
 )
-from tests.samples import NO_PLANS, few_faced_plans, ring_lines, star, zigzag
+from tests.samples import NO_PLANS, few_faced_plans, star, zigzag
 
 FEW = few_faced_plans()
 FORTY = forty_faced_plans()
@@ -24,38 +23,6 @@ def all_lies(plans):
 
 def some_lies(plans):
     return [told for at, told in enumerate(all_lies(plans)) if at % 11 == 0]
-
-
-def own_middles(plan, place):
-    """By counting the parts at the corner top, and those of them that lie ahead of the line."""
-    top, under = place
-    faces, joined = plan[0], ring_lines(plan)
-    others = going_round(faces, top, top)
-    at_top = [pair for pair in combinations(others, 2) if all(
-        tuple(sorted(line)) in joined for line in ((top, pair[0]), (top, pair[1]), pair)
-    )]
-    ahead = going_round(faces, top, under) + [under]
-    between = [pair for pair in at_top if pair[0] in ahead and pair[1] in ahead]
-    return (len(between) % 3, (len(between) - len(at_top)) % 3)
-
-
-def own_heaps(plan, lie):
-    """By cutting the ring of all copies into stretches, wherever even leaves and odd ones meet."""
-    top, under, front = lie
-    order, copies = own_order(plan), 3 * plan[0]
-    even, odd = own_stacks(plan, (top, under))
-    is_even = [order[copy % plan[0]] in even for copy in range(copies)]
-    begins = [copy for copy in range(copies) if is_even[copy] != is_even[copy - 1]]
-    stretches = []
-    for at, begin in enumerate(begins):
-        end = begins[(at + 1) % len(begins)]
-        stretches.append([begin] + going_round(copies, begin, end))
-    in_front = front * plan[0] + order.index(top)
-    first = [at for at, stretch in enumerate(stretches) if in_front in stretch][0]
-    turn = 1 if own_upright(plan, (top, under)) else -1
-    slots = [stretches[(first + turn * slot) % len(stretches)] for slot in range(len(stretches))]
-    downwards = even + odd
-    return [sorted(stretch, key=lambda copy: downwards.index(order[copy % plan[0]])) for stretch in slots]
 
 
 class Middles(unittest.TestCase):
