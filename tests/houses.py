@@ -16,7 +16,9 @@ NO_NAMES = (
     "", "A", "aB", "a1", "1", "a b", " a", "a ", " ", "abcdefghi", "abcdefghijkl", "a-b", "a_b", "-", "_", "\n", "a\n",
     "{", "`", "~", "@", "a.", ":", "Abcdefgh",
 )
-NO_COLOURS = ("", "Red", "RED", "red ", " red", "green", "plain", "none", "r", "redblue", "red\n", "re", "old", "-", "a")
+NO_COLOURS = (
+    "", "Red", "RED", "red ", " red", "green", "plain", "none", "r", "redblue", "red\n", "re", "old", "-", "a",
+)
 NO_LETTERS = ("", "A", "Z", "ab", "abc", "-", "1", " ", "a ", "\n", "{", "`", "~", "aa", "yz", "za", "---")
 NO_SLOTS = (-1, 6, 7, -6, 10, 100, 10 ** 39, -10 ** 39)
 NO_SIDES = ("", "Fore", "FORE", "fore ", " back", "backs", "front", "even", "odd", "f", "ore", "foreback", "top", "\n")

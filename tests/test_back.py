@@ -116,7 +116,8 @@ class Back(unittest.TestCase):
         ahead = all_told(house)
         for deed, refusal in (
             (("fold", "a", PLAN), PinchError), (("over", "nobody"), NoPaper), ((), BadDeed), (("pinch", "a"), BadDeed),
-            (("paint", "a", 6, "red"), PinchError), (("mark", "a", 0, "A"), PinchError), (("refold", "a", PLAN), PinchError),
+            (("paint", "a", 6, "red"), PinchError), (("mark", "a", 0, "A"), PinchError),
+            (("refold", "a", PLAN), PinchError),
             (("fold", "n", (5, ())), PinchError),
         ):
             self.assertRaises(refusal, house.do, deed)
@@ -164,7 +165,9 @@ class Back(unittest.TestCase):
 
     def test_an_unfolding_taken_back_brings_the_lie_back(self):
         house = House()
-        for deed in (("fold", "a", PLAN), ("pinch", "a", "odd"), ("about", "a"), ("unfold", "a"), ("refold", "a", PLAN)):
+        for deed in (
+            ("fold", "a", PLAN), ("pinch", "a", "odd"), ("about", "a"), ("unfold", "a"), ("refold", "a", PLAN),
+        ):
             house.do(deed)
         self.assertEqual(house.lie("a"), (0, 1, 0))
         house.back()

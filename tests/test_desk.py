@@ -58,7 +58,10 @@ class Answers(Said):
             self.assertEqual(all_told(desk.house()), all_told(house))
 
     def test_undo_and_redo(self):
-        lines = ["fold a 5:0-2,2-4", "pinch a odd", "paint a 1 gold", "mark a 2 x", "unfold a", "refold a 5:0-2,2-4", "drop a"]
+        lines = [
+            "fold a 5:0-2,2-4", "pinch a odd", "paint a 1 gold", "mark a 2 x", "unfold a",
+            "refold a 5:0-2,2-4", "drop a",
+        ]
         desk = desk_behind(*lines)
         self.assertEqual([desk.say("undo") for line in lines], lines[::-1])
         self.check_same(desk, "undo", "refused noback")
@@ -200,7 +203,8 @@ class Refusals(Said):
             ("unfold new", "nopaper"), ("refold folded 3:", "folded"), ("refold folded 3:0-2", "folded"),
             ("refold strip 3:0-2", "badplan"), ("refold strip 3:", "otherrow"), ("refold new 3:", "nopaper"),
             ("lie new", "nopaper"), ("row new", "nopaper"), ("plan new", "nopaper"), ("seen new", "nopaper"),
-            ("beneath new", "nopaper"), ("folds new", "nopaper"), ("road new 0 1", "nopaper"), ("road new 9 9", "nopaper"),
+            ("beneath new", "nopaper"), ("folds new", "nopaper"), ("road new 0 1", "nopaper"),
+            ("road new 9 9", "nopaper"),
             ("lie strip", "unfolded"), ("plan strip", "unfolded"), ("seen strip", "unfolded"),
             ("beneath strip", "unfolded"), ("road strip 0 1", "unfolded"), ("road strip 9 9", "unfolded"),
             ("road folded 9 9", "badplace"), ("road folded 0 0", "badplace"),
@@ -252,22 +256,32 @@ class NoLine(Said):
         desk = busy_desk()
         for line in (
             "", " ", "undo ", " undo", "Undo", "UNDO", "undo undo", "undo folded", "undo 1", "redo ", " redo", "Redo",
-            "redo redo", "redo 2", "re do", "names ", " names", "Names", "names folded", "name", "names names", "lie", "lie ",
+            "redo redo", "redo 2", "re do", "names ", " names", "Names", "names folded", "name", "names names", "lie",
+            "lie ",
             "lie  folded", "lie folded ", " lie folded", "Lie folded", "lie Folded", "lie folded strip", "lie a1",
-            "lie abcdefghi", "lies folded", "lie-folded", "liefolded", "row", "row ", "row folded ", "row FOLDED", "Row folded",
-            "row folded 1", "rows folded", "plan", "plan ", "plan folded ", "plan 3:", "plan folded 3:", "Plan folded", "seen",
-            "seen ", "seen folded ", "seen folded 0", "Seen folded", "see folded", "beneath", "beneath ", "beneath folded ",
+            "lie abcdefghi", "lies folded", "lie-folded", "liefolded", "row", "row ", "row folded ", "row FOLDED",
+            "Row folded",
+            "row folded 1", "rows folded", "plan", "plan ", "plan folded ", "plan 3:", "plan folded 3:", "Plan folded",
+            "seen",
+            "seen ", "seen folded ", "seen folded 0", "Seen folded", "see folded", "beneath", "beneath ",
+            "beneath folded ",
             "beneath folded 0", "Beneath folded", "road", "road ", "road folded", "road folded 0", "road folded 0 1 2",
-            "road folded 0 1 ", "road  folded 0 1", "road folded  0 1", "road folded 0  1", "road folded 00 1", "road folded 0 01",
+            "road folded 0 1 ", "road  folded 0 1", "road folded  0 1", "road folded 0  1", "road folded 00 1",
+            "road folded 0 01",
             "road folded -1 0", "road folded 0 -1", "road folded 12345 0", "road folded 0 10000", "road folded a b",
-            "road 0 1", "road 0 1 folded", "road 0 folded 1", "road Folded 0 1", "Road folded 0 1", "road folded (0, 1)",
+            "road 0 1", "road 0 1 folded", "road 0 folded 1", "road Folded 0 1", "Road folded 0 1",
+            "road folded (0, 1)",
             "road folded 0,1", "road folded +0 1", "folds", "folds ", "folds folded ", "folds folded x", "Folds folded",
             "fold", "fold new", "fold new 3", "fold new 3: ", "fold New 3:", "fold new 03:", "fold new 3:0-2,", "drop",
             "drop folded ", "drop Folded", "pinch folded", "pinch folded Odd", "pinch folded odd ", "pinch  folded odd",
-            "paint folded 1 green", "paint folded 01 red", "paint folded 1", "paint folded 12345 red", "paint folded -1 red",
-            "paint folded 0 plain", "mark folded 1 A", "mark folded 1 ab", "mark folded 1", "mark folded 1 -", "wash folded",
-            "wash folded 0 0", "over", "over folded over", "about", "about folded 1", "unfold", "unfold folded ", "refold strip",
-            "refold strip 4", "leaf folded 0 fore", "folded folded", "deeds", "twin", "back", "again", "len", "done", "none",
+            "paint folded 1 green", "paint folded 01 red", "paint folded 1", "paint folded 12345 red",
+            "paint folded -1 red",
+            "paint folded 0 plain", "mark folded 1 A", "mark folded 1 ab", "mark folded 1", "mark folded 1 -",
+            "wash folded",
+            "wash folded 0 0", "over", "over folded over", "about", "about folded 1", "unfold", "unfold folded ",
+            "refold strip",
+            "refold strip 4", "leaf folded 0 fore", "folded folded", "deeds", "twin", "back", "again", "len", "done",
+            "none",
             "no line", "refused nopaper", "help", "undo\n", "\nundo", "names\n", "\n", "lie folded\n", "over folded\n",
             "over folded\nover folded", "names\nnames", "unpinch", "~", "{}", "seen,folded", "over.folded",
         ):

@@ -343,7 +343,8 @@ class Twelve(Refused):
             house.do(("fold", "a", plan))
             self.assertEqual(all_told(house)[4], bare)
             self.assertEqual(house.lie("a"), (0, 1, 0))
-            self.assertEqual({house.leaf("a", copy, side) for copy in range(3 * plan[0]) for side in SIDES}, {("", "---")})
+            leaves = {house.leaf("a", copy, side) for copy in range(3 * plan[0]) for side in SIDES}
+            self.assertEqual(leaves, {("", "---")})
             house.do(("unfold", "a"))
             house.do(("drop", "a"))
             self.assertEqual(len(house), 0)
@@ -378,8 +379,9 @@ class Questions(unittest.TestCase):
             house, book = House(), OwnHouse([plan])
             steps = [("fold", "a", plan)]
             for at, way in enumerate(("odd", "odd", "even", "odd", "odd", "even")):
-                steps += [("pinch", "a", way), ("paint", "a", at % 6, COLOURS[at % 3]), ("mark", "a", at % 6, LETTERS[at])]
-                steps += [("mark", "a", (at + 3) % 6, LETTERS[-at]), ("over", "a"), ("mark", "a", at, "m"), ("about", "a")]
+                steps += [("pinch", "a", way), ("paint", "a", at % 6, COLOURS[at % 3])]
+                steps += [("mark", "a", at % 6, LETTERS[at]), ("mark", "a", (at + 3) % 6, LETTERS[-at])]
+                steps += [("over", "a"), ("mark", "a", at, "m"), ("about", "a")]
             for deed in steps:
                 if book.refusal(deed) is None:
                     house.do(deed)

@@ -191,7 +191,9 @@ class Left(unittest.TestCase):
 class Numbers(unittest.TestCase):
     def test_met_counts_new_numbers(self):
         watch = Watch()
-        for face, met in ((1, 2), (0, 2), (2, 3), (1, 3), (2, 3), (3, 4), (4, 5), (0, 5), (5, 6), (6, 7), (7, 8), (8, 9)):
+        for face, met in (
+            (1, 2), (0, 2), (2, 3), (1, 3), (2, 3), (3, 4), (4, 5), (0, 5), (5, 6), (6, 7), (7, 8), (8, 9),
+        ):
             watch.went("even", face)
             self.assertEqual(watch.met(), met)
         watch.stuck("odd")
